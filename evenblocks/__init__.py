@@ -1,0 +1,1 @@
+"""Evenblocks: blocks in which each two things meet equally often."""
