@@ -2,6 +2,8 @@
 
 from itertools import combinations, combinations_with_replacement, product
 
+from evenblocks.errors import BlockError
+
 SEVEN = (7, [(0, 1, 2), (0, 3, 4), (0, 5, 6), (1, 3, 5), (1, 4, 6), (2, 3, 6), (2, 4, 5)])
 EIGHT = (8, [(0, 1, 2, 3), (0, 1, 4, 5), (0, 1, 6, 7), (0, 2, 4, 6), (0, 2, 5, 7),
              (0, 3, 4, 7), (0, 3, 5, 6), (1, 2, 4, 7), (1, 2, 5, 6), (1, 3, 4, 6),
@@ -116,3 +118,29 @@ def kinds_of(value):
     if isinstance(value, (tuple, list)):
         return value.__class__, [kinds_of(part) for part in value]
     return value.__class__, value
+
+
+HUGE = (10 ** 49, 10 ** 60 + 7, 2 ** 500, 10 ** 5000)
+
+
+def whole_numbers(low, high):
+    """The whole numbers from low to high, and some that are far away from them."""
+    return [-number for number in HUGE[::-1]] + list(range(low, high + 1)) + list(HUGE)
+
+
+def refusal_of(ask, *handed_in):
+    """The class of the refusal of a function; None where it isn't refused."""
+    try:
+        ask(*handed_in)
+    except BlockError as refusal:
+        return refusal.__class__
+    return None
+
+
+def lists_in(value):
+    """Every list that stands in a value, itself too."""
+    found = [value] if isinstance(value, list) else []
+    if isinstance(value, (tuple, list)):
+        for part in value:
+            found += lists_in(part)
+    return found

@@ -14,7 +14,7 @@ BUILTINS = set("""len range enumerate zip min max sum abs sorted reversed int st
     NotImplemented property staticmethod classmethod""".split())
 BARRED_WORDS = re.compile(
     r"\b(type|typing|typing_extensions|enum|Enum|IntEnum|StrEnum|Flag|IntFlag|Generic|Protocol|ABC|ABCMeta|namedtuple"
-    r"|NamedTuple|TypedDict|TYPE_CHECKING|abstractmethod)\b|dataclass|overload|contextmanager|%")
+    r"|NamedTuple|TypedDict|TYPE_CHECKING|abstractmethod)\b|dataclass|overload|contextmanager")
 METHODS = set("""append clear copy count endswith extend find get index insert isalnum isalpha isdigit islower isspace
     isupper items join keys ljust lower lstrip partition pop remove replace reverse rfind rjust rpartition rsplit
     rstrip setdefault split splitlines startswith strip update upper values zfill bit_length title capitalize swapcase
@@ -42,6 +42,18 @@ def names_bound(tree):
             yield node.attr, node
 
 
+def callers(tree):
+    """For each node of a file the node in which it stands."""
+    return {id(part): node for node in ast.walk(tree) for part in ast.iter_child_nodes(node)}
+
+
+def called(node):
+    """The name of the function or method that a node calls, None for other nodes."""
+    if isinstance(node, ast.Call):
+        return getattr(node.func, "id", getattr(node.func, "attr", None))
+    return None
+
+
 def own_methods():
     return {node.name for path, tree in trees() for owner in ast.walk(tree) if isinstance(owner, ast.ClassDef)
             for node in owner.body if isinstance(node, ast.FunctionDef)}
@@ -67,8 +79,9 @@ class Files(unittest.TestCase):
     def test_barred_words(self):
         for path in FILES:
             found = [row for row in path.read_text("ascii").split("\n") if BARRED_WORDS.search(row)]
-            # A percent sign may stand as an operator, only not in a string; strings are looked at below.
-            self.assertEqual([row for row in found if not re.search(r"\w %=? \w", row)], [], path.name)
+            self.assertEqual(found, [], path.name)
+
+    def test_no_percent_sign_in_strings(self):
         for path, tree in trees():
             for node in ast.walk(tree):
                 if isinstance(node, ast.Constant) and isinstance(node.value, str):
@@ -112,6 +125,53 @@ class Code(unittest.TestCase):
                     self.assertRegex(name, r"\A[A-Za-z][A-Za-z0-9_]*\Z", (path.name, node.lineno))
                 if not isinstance(node, ast.Attribute) and name not in methods:
                     self.assertFalse(hasattr(builtins, name), (path.name, node.lineno, name))
+
+    def test_each_name_has_one_meaning(self):
+        for path, tree in trees():
+            bound = [name for node in tree.body for name in self.bound_by(node)]
+            self.assertEqual(sorted(bound), sorted(set(bound)), path.name)
+            kept = {name for node in tree.body if not isinstance(node, (ast.FunctionDef, ast.Assign))
+                    for name in self.bound_by(node)}
+            for name, node in names_bound(tree):
+                if node not in tree.body and not isinstance(node, (ast.alias, ast.Attribute)):
+                    self.assertNotIn(name, kept, (path.name, node.lineno))
+
+    def bound_by(self, node):
+        """The names that a part of a file binds at module level."""
+        if isinstance(node, (ast.FunctionDef, ast.ClassDef)):
+            return [node.name]
+        if isinstance(node, ast.ImportFrom):
+            return [name.asname or name.name for name in node.names]
+        return [target.id for target in getattr(node, "targets", [])]
+
+    def test_no_name_is_a_method_and_an_attribute(self):
+        stored = {node.attr for path, tree in trees() for node in ast.walk(tree)
+                  if isinstance(node, ast.Attribute) and isinstance(node.ctx, ast.Store)}
+        read = {node.attr for path, tree in trees() for node in ast.walk(tree) if isinstance(node, ast.Attribute)}
+        self.assertEqual(stored & own_methods(), set())
+        self.assertLessEqual(read, stored | own_methods() | METHODS)
+
+    def test_powers(self):
+        for path, tree in trees():
+            for node in ast.walk(tree):
+                if isinstance(node, ast.Pow):
+                    power = callers(tree)[id(node)].right
+                    self.assertIsInstance(power, ast.Constant, path.name)
+                    self.assertIn(power.value, range(65), path.name)
+
+    def test_iterated_at_once(self):
+        takers = set("list tuple dict sorted sum any all enumerate zip bytes min max join reversed len".split())
+        for path, tree in trees():
+            above = callers(tree)
+            for node in ast.walk(tree):
+                name = called(node)
+                if isinstance(node, ast.GeneratorExp):
+                    self.assertIn(called(above[id(node)]), takers - {"enumerate", "zip", "reversed", "len"}, path.name)
+                elif name in ("zip", "enumerate", "reversed", "range", "items", "keys", "values"):
+                    holder = above[id(node)]
+                    looped = isinstance(holder, (ast.For, ast.comprehension)) and holder.iter == node
+                    tested = isinstance(holder, ast.Compare) and isinstance(holder.ops[0], (ast.In, ast.NotIn))
+                    self.assertTrue(looped or tested or called(holder) in takers, (path.name, node.lineno))
 
     def test_builtins(self):
         for path, tree in trees():
