@@ -144,3 +144,11 @@ def lists_in(value):
         for part in value:
             found += lists_in(part)
     return found
+
+
+def spoiled(told):
+    """Changes every list of an answer."""
+    for part in lists_in(told):
+        part.reverse()
+        part.append(["more"])
+        del part[0]

@@ -10,7 +10,7 @@ from evenblocks.planes import closed, flat, flat_days
 from evenblocks.plans import checked, how_often, met_by
 from evenblocks.rests import first_base, rests_between, rolled, square_bases
 from evenblocks.spaces import sheets, space
-from tests.samples import EIGHT, SEVEN, all_of_size, kinds_of, lists_in, refusal_of
+from tests.samples import EIGHT, SEVEN, all_of_size, kinds_of, lists_in, refusal_of, spoiled
 
 
 def checked_or_place(plan):
@@ -59,14 +59,6 @@ MAKINGS = {
 # What is asked of a list of bases of seven things.
 OF_BASES = {"rests_between": lambda bases: rests_between(7, bases), "rolled": lambda bases: rolled(7, bases)}
 BASES = ([(0, 1, 3)], [(0,)], [(6,), (0, 2), (0, 2)], [tuple(range(7))] * 3, [(2, 4, 5), (0, 1, 3)])
-
-
-def spoiled(told):
-    """Changes every list of an answer."""
-    for part in lists_in(told):
-        part.reverse()
-        part.append(["more"])
-        del part[0]
 
 
 class Unchanged(unittest.TestCase):
