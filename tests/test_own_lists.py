@@ -3,10 +3,14 @@
 import unittest
 from copy import deepcopy
 
-from evenblocks.errors import NoBlock, NoNet, NoSize, NoSquare, NoTriples, NoTurning, Unlike
+from evenblocks.alike import alike, shows_unlike
+from evenblocks.days import days_of, fault_of_days, pair_days
+from evenblocks.errors import (NoBlock, NoDays, NoNet, NoPlan, NoSize, NoSquare, NoText, NoTriples, NoTurning, Unlike)
 from evenblocks.nets import net, net_days, squares_by
+from evenblocks.planes import flat, flat_days
 from evenblocks.plans import checked
 from evenblocks.squares import checked_square, crossed, field_squares, many_squares, same_pair
+from evenblocks.texts import read_plan, read_square, show_plan, show_square
 from evenblocks.triples import triples
 from evenblocks.turning import beside, moved, others, swapped, within, without
 from tests.plain_squares import rows_turned
@@ -15,6 +19,8 @@ from tests.samples import EIGHT, SEVEN, kinds_of, lists_in, refusal_of, spoiled
 MIXED = (4, [(2, 3), (0, 1), (0, 1), (), (0, 1, 2, 3), (3,)])
 TWO = [[0, 1], [1, 0]]
 FOURS = field_squares(4)
+# A ring of four things, and a ring of three with one left over.
+RING, RINGS = (4, [(0, 1), (1, 2), (2, 3), (0, 3)]), (4, [(0, 1), (1, 2), (0, 2), (0, 3)])
 
 # Each function with what is handed in, of lists that may be changed.
 CASES = [
@@ -34,6 +40,17 @@ CASES = [
     (swapped, SEVEN), (swapped, MIXED), (swapped, (2, [(0, 1)])),
     (within, SEVEN, 0), (within, MIXED, 4), (within, MIXED, 0), (within, (1, [(0,)]), 0),
     (without, EIGHT, 3), (without, MIXED, 3), (without, MIXED, 0),
+    (alike, SEVEN, SEVEN), (alike, MIXED, moved(MIXED, [3, 1, 0, 2])), (alike, RING, RINGS), (alike, RINGS, RING),
+    (alike, (3, []), (3, [])), (alike, SEVEN, EIGHT), (alike, flat(3), flat(3)), (alike, MIXED, (4, MIXED[1][:-1])),
+    (shows_unlike, RING, RINGS, alike(RING, RINGS)[1]), (shows_unlike, RING, RING, alike(RING, RINGS)[1]),
+    (shows_unlike, RING, RINGS, ["thing", 0, [[], [[]]]]), (shows_unlike, SEVEN, EIGHT, [[]]),
+    (fault_of_days, flat(3), flat_days(3)), (fault_of_days, flat(2), flat_days(2)[:2]), (fault_of_days, (3, []), []),
+    (fault_of_days, (3, []), [[]]), (fault_of_days, (2, [(0, 1), (0, 1)]), [[(0, 1), (0, 1)]]),
+    (pair_days, 2), (pair_days, 7), (pair_days, 60),
+    (days_of, flat(3)), (days_of, SEVEN), (days_of, (3, [])), (days_of, (3, [()])), (days_of, EIGHT),
+    (days_of, (2, [(), (0, 1), (0,), (), (1,)])), (days_of, (1, [(0,)] * 3)),
+    (show_plan, SEVEN), (show_plan, MIXED), (show_plan, (3, [])), (show_square, TWO), (show_square, FOURS[2]),
+    (read_plan, "things 3"), (read_plan, "things 3\n1 2\n-\n0\n1 2"), (read_square, "0"), (read_square, "1 0\n0 1"),
 ]
 
 # Each function with what it refuses.
@@ -43,7 +60,8 @@ REFUSED = [
     (Unlike, net, 2, [TWO, TWO]), (Unlike, net_days, 3, [TWO]), (NoSize, squares_by, 1, [[(0,)], [(0,)]]),
     (NoNet, squares_by, 2, [[(0, 1), (3, 2)], [(0, 2), (1, 3)]]), (NoTurning, moved, MIXED, [3, 2, 1, 1]),
     (Unlike, beside, SEVEN, EIGHT), (NoBlock, swapped, (3, [])), (NoBlock, within, MIXED, 3),
-    (NoBlock, without, MIXED, 4), (NoBlock, within, MIXED, -1),
+    (NoBlock, without, MIXED, 4), (NoBlock, within, MIXED, -1), (NoDays, pair_days, 61), (NoText, read_plan, ""),
+    (NoPlan, read_plan, "things 1\n1"), (NoText, read_square, "-"), (NoSquare, read_square, "1"),
 ]
 
 
@@ -126,6 +144,13 @@ class OwnLists(unittest.TestCase):
         largest = field_squares(32)
         self.assertIs(same_pair(largest[0], largest[30]), None)
         self.assertIs(checked_square(crossed(many_squares(8)[0], many_squares(8)[6])), True)
+        self.assertEqual(read_plan(show_plan(turned)), turned)
+        self.assertEqual(read_square(show_square(largest[7])), largest[7])
+        self.assertEqual(shows_unlike(RING, RINGS, alike(RING, RINGS)[1]), True)
+        self.assertIs(fault_of_days(flat(13), flat_days(13)), None)
+        self.assertEqual(moved(MIXED, alike(MIXED, others(others(MIXED)))[1]), others(others(MIXED)))
+        pairs = (60, [pair for day in pair_days(60) for pair in day])
+        self.assertIs(fault_of_days(pairs, pair_days(60)), None)
         days = net_days(13, many_squares(13))
         self.assertEqual(net_days(13, squares_by(13, days)), days)
 
